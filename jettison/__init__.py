@@ -1,0 +1,1 @@
+"""Jettison: what one gives up at sea is borne by all."""
