@@ -14,6 +14,11 @@ OWN_NAMES = set(
     "repr any all divmod Exception ValueError TypeError KeyError IndexError LookupError ZeroDivisionError "
     "ArithmeticError OverflowError RuntimeError NotImplementedError AttributeError StopIteration".split()
 )
+PYTHON_METHODS = set(
+    "append clear copy count endswith extend find get index insert isalnum isalpha isdigit islower isspace isupper "
+    "items join keys ljust lower lstrip partition pop remove replace reverse rfind rjust rpartition rsplit rstrip "
+    "setdefault split splitlines startswith strip update upper values zfill bit_length".split()
+)
 METHODS = {"__init__", "__eq__", "__repr__", "__str__", "__len__"}
 BARRED_WORDS = re.compile(
     r"\b(type|typing|typing_extensions|enum|Enum|IntEnum|StrEnum|Flag|IntFlag|Generic|Protocol|ABC|ABCMeta|namedtuple"
@@ -45,6 +50,18 @@ def names_of(tree):
             yield node.arg
         elif isinstance(node, ast.Attribute):
             yield node.attr
+
+
+def methods_of(trees):
+    """Every method of a class."""
+    return {row.name for tree in trees for node in tree.body if isinstance(node, ast.ClassDef)
+            for row in node.body if isinstance(row, ast.FunctionDef)}
+
+
+def values_of(trees):
+    """Every value that an object is given."""
+    return {node.attr for tree in trees for node in ast.walk(tree)
+            if isinstance(node, ast.Attribute) and isinstance(node.ctx, ast.Store)}
 
 
 def names_at_top(path):
@@ -93,6 +110,53 @@ class FormTest(unittest.TestCase):
                     given = names_at_top(PACKAGE / (node.module.split(".")[1] + ".py"))
                     for alias in node.names:
                         self.assertIn(alias.name, given, file)
+
+    def test_no_two_files_draw_from_one_another(self):
+        drawn = {}
+        for file, text, tree in self.each():
+            drawn[file] = [row.module.split(".")[1] + ".py" for row in tree.body if isinstance(row, ast.ImportFrom)]
+        while drawn:
+            free = [file for file, others in drawn.items() if not any(other in drawn for other in others)]
+            self.assertNotEqual(free, [], drawn)
+            for file in free:
+                del drawn[file]
+
+    def test_methods_and_values(self):
+        trees = [tree for file, text, tree in self.each()]
+        methods, values = methods_of(trees), values_of(trees)
+        self.assertEqual(methods & values, set())
+        for own in (str, int, list, dict, set, bytes, tuple):
+            self.assertEqual((methods - METHODS - PYTHON_METHODS) & set(dir(own)), set())
+            self.assertEqual(values & set(dir(own)), set())
+        for file, text, tree in self.each():
+            called = {id(node.func) for node in ast.walk(tree) if isinstance(node, ast.Call)}
+            for node in ast.walk(tree):
+                if isinstance(node, ast.Attribute):
+                    allowed = methods | PYTHON_METHODS if id(node) in called else values
+                    self.assertIn(node.attr, allowed, (file, node.lineno))
+
+    def test_classes_hold_methods_alone(self):
+        for file, text, tree in self.each():
+            for node in ast.walk(tree):
+                if isinstance(node, ast.ClassDef):
+                    self.assertIn(node, tree.body, file)
+                    self.assertLessEqual(len(node.bases), 1, file)
+                    names = [row.name for row in node.body if isinstance(row, ast.FunctionDef)]
+                    self.assertEqual(len(names), len(set(names)), file)
+                    for row in node.body[1:]:
+                        self.assertIsInstance(row, ast.FunctionDef, file)
+
+    def test_no_local_is_called_like_a_class_or_an_import(self):
+        for file, text, tree in self.each():
+            taken = {row.name for row in tree.body if isinstance(row, ast.ClassDef)}
+            for row in tree.body:
+                if isinstance(row, ast.ImportFrom):
+                    taken |= {alias.name for alias in row.names}
+            for node in ast.walk(tree):
+                if isinstance(node, ast.arg):
+                    self.assertNotIn(node.arg, taken, file)
+                if isinstance(node, ast.Name) and isinstance(node.ctx, ast.Store):
+                    self.assertNotIn(node.id, taken, file)
 
     def test_statements_and_values(self):
         for file, text, tree in self.each():
