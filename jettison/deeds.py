@@ -47,7 +47,7 @@ def perform(hold, deed):
     if word == "load":
         hold.load(deed[1], deed[2], deed[3], deed[4])
     elif word == "cast":
-        hold.cast([(deed[at], deed[at + 1]) for at in range(1, len(deed), 2)])
+        hold.cast(rows_of(deed))
     elif word == "award":
         hold.award(deed[1], deed[2])
     elif word == "mishap":
@@ -60,6 +60,11 @@ def perform(hold, deed):
         hold.land(deed[1])
     elif word == "sever":
         hold.sever(deed[1], deed[2], deed[3], deed[4])
+
+
+def rows_of(deed):
+    """The rows of a cast."""
+    return [(deed[at], deed[at + 1]) for at in range(1, len(deed), 2)]
 
 
 def shown(deed):

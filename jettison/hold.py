@@ -65,7 +65,7 @@ class Hold:
         """Give up these amounts of these parts at one moment; all bear it."""
         amounts = amounts_of(rows)
         for name, amount in amounts.items():
-            check_loss(self.part_of(name), amount)
+            check_loss(self.part_of(name).worth, amount)
         whole = self.whole()
         lost = sum(amounts.values())
         if lost >= whole:
@@ -87,7 +87,7 @@ class Hold:
 
     def mishap(self, part, amount):
         """A loss that those alone bear who have a share in the part."""
-        check_loss(self.part_of(part), amount)
+        check_loss(self.part_of(part).worth, amount)
         self.lessen(part, amount)
 
     def rise(self, part, amount):
@@ -246,6 +246,14 @@ class Hold:
         self.bottom.grow(whole // shared)
 
 
+def fresh_hold(roster):
+    """A hold without parts, on which these owners are signed."""
+    hold = Hold()
+    for owner in roster:
+        hold.sign(owner)
+    return hold
+
+
 def amounts_of(rows):
     """The amount of each part that has a row."""
     amounts = {}
@@ -264,8 +272,8 @@ def check_amount(amount):
         raise BadNumber("an amount is less than 1")
 
 
-def check_loss(part, amount):
-    """Refuse an amount that the part can't lose."""
+def check_loss(most, amount):
+    """Refuse an amount that is less than 1 or more than there is to take from."""
     check_amount(amount)
-    if amount > part.worth:
-        raise TooMuch("more than the part is worth")
+    if amount > most:
+        raise TooMuch("more than there is to take from")

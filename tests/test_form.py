@@ -171,6 +171,42 @@ class FormTest(unittest.TestCase):
                 if isinstance(node, ast.BinOp) and isinstance(node.op, ast.Pow):
                     self.assertTrue(isinstance(node.right, ast.Constant) and 0 <= node.right.value <= 64, where)
 
+    def test_the_top_of_a_file(self):
+        for file, text, tree in self.each():
+            self.assertIsNotNone(ast.get_docstring(tree), file)
+            names = []
+            for row in tree.body[1:]:
+                self.assertIsInstance(row, (ast.ImportFrom, ast.FunctionDef, ast.ClassDef, ast.Assign), file)
+                if isinstance(row, ast.ImportFrom):
+                    names += [alias.name for alias in row.names]
+                    self.assertTrue(all(alias.asname is None for alias in row.names), file)
+                else:
+                    names.append(row.targets[0].id if isinstance(row, ast.Assign) else row.name)
+            self.assertEqual(len(names), len(set(names)), file)
+
+    def test_errors_are_taken_and_raised_by_name(self):
+        refusals = names_at_top(PACKAGE / "errors.py")
+        for file, text, tree in self.each():
+            for node in ast.walk(tree):
+                if isinstance(node, ast.ExceptHandler):
+                    self.assertIn(node.type.id, refusals, (file, node.lineno))
+                if isinstance(node, ast.Raise):
+                    self.assertIn(node.exc.func.id, refusals, (file, node.lineno))
+
+    def test_is_stands_beside_none_alone(self):
+        for file, text, tree in self.each():
+            for node in ast.walk(tree):
+                if isinstance(node, ast.Compare) and isinstance(node.ops[0], (ast.Is, ast.IsNot)):
+                    self.assertIsNone(node.comparators[0].value, (file, node.lineno))
+
+    def test_texts_in_braces(self):
+        for file, text, tree in self.each():
+            for node in ast.walk(tree):
+                if isinstance(node, ast.FormattedValue):
+                    self.assertIsNone(node.format_spec, (file, node.lineno))
+                    for within in ast.walk(node.value):
+                        self.assertFalse(isinstance(within, ast.Constant) and isinstance(within.value, str), file)
+
     def test_names_of_python_itself(self):
         for file, text, tree in self.each():
             for node in ast.walk(tree):

@@ -6,12 +6,8 @@ import time
 import unittest
 from fractions import Fraction
 
-from jettison.errors import JettisonError
 from jettison.hold import Hold
-from plain import PlainHold, fraction, seen
-
-OWNERS = ["ann", "bob", "cid", "dan", "eve"]
-PARTS = ["tea", "oak", "silk", "rum", "rye", "salt", "wool", "keel", "mast", "sail", "hemp", "tar"]
+from plain import OWNERS, PARTS, PlainHold, fraction, letters, outcome, seen
 
 
 def drawn_deed(chance, hold):
@@ -39,13 +35,6 @@ def drawn_deed(chance, hold):
     if word == "land":
         return (word, part if chance.random() < 0.4 else fresh)
     return (word, part, fresh, amount, chance.randint(-1, weight + 1))
-
-
-def outcome(hold, deed):
-    try:
-        return getattr(hold, deed[0])(*deed[1:])
-    except JettisonError as error:
-        return type(error)
 
 
 class DrawnTest(unittest.TestCase):
@@ -260,11 +249,6 @@ class ScaleTest(unittest.TestCase):
                 self.assertEqual([row[3] for row in great.landed()], [row[3] for row in small.landed()])
                 for told, was in zip(stakes_of(great) + fortunes_of(great), stakes_of(small) + fortunes_of(small)):
                     self.assertEqual(fraction(told), many * fraction(was))
-
-
-def letters(at):
-    """A name for each number."""
-    return "abcdefghijklmnopqrstuvwxyz"[at // 26] + "abcdefghijklmnopqrstuvwxyz"[at % 26]
 
 
 class GreatHoldTest(unittest.TestCase):
